@@ -77,7 +77,11 @@ func TestMatrixBinaryMemory(t *testing.T) {
 				if ok != fine || !sameMatrix(first, second) {
 					t.Error(name, "has two results for", a, b)
 				}
+				kept := slices.Clone(second.Cells)
 				spoil(first)
+				if !slices.Equal(second.Cells, kept) {
+					t.Error(name, "shares memory of two results")
+				}
 				spoil(second)
 				g.check(t, name+" with spoilt results")
 				h.check(t, name+" with spoilt results")
@@ -107,10 +111,14 @@ func TestMatrixColumnMemory(t *testing.T) {
 	for _, m := range memoryCases() {
 		for k := range max(m.Cols, 0) {
 			g := guard(m)
-			got, _ := impl.ColumnOf(g.m, k)
+			got, ok := impl.ColumnOf(g.m, k)
 			g.check(t, "ColumnOf")
+			other, fine := impl.ColumnOf(g.m, k)
 			spoil(got)
 			g.check(t, "ColumnOf with a spoilt result")
+			if want, _ := impl.ColumnOf(m, k); ok != fine || !sameMatrix(other, want) {
+				t.Error("ColumnOf shares memory of two results")
+			}
 		}
 	}
 }
@@ -118,9 +126,11 @@ func TestMatrixColumnMemory(t *testing.T) {
 func TestMatrixIdentityMemory(t *testing.T) {
 	for _, n := range validDims() {
 		first, _ := impl.IdentityMatrix(n)
-		spoil(first)
 		second, ok := impl.IdentityMatrix(n)
-		checkMatrix(t, "IdentityMatrix after a spoilt result", second, ok, identity(n))
+		spoil(first)
+		checkMatrix(t, "IdentityMatrix beside a spoilt result", second, ok, identity(n))
+		third, ok := impl.IdentityMatrix(n)
+		checkMatrix(t, "IdentityMatrix after a spoilt result", third, ok, identity(n))
 	}
 }
 
